@@ -1,0 +1,1 @@
+"""Guessedzeros: a unit that reckons with floating numbers."""

@@ -1,0 +1,42 @@
+"""Each listed name is defined in the file under which the interface lists it, with its arguments."""
+
+import importlib
+import inspect
+import unittest
+
+FUNCTIONS = {
+    "spelling": {
+        "spelled": "(form, word)", "word_in": "(form, text)", "worth_text": "(form, word)", "compared": "(form, a, b)"},
+}
+METHODS = {
+    ("forms", "Form"): {
+        "__init__": "(self, scale, tail)", "width": "(self)", "bias": "(self)", "top": "(self)",
+        "parts": "(self, word)", "word_of": "(self, sign, scale, tail)", "is_word": "(self, thing)",
+        "sort_of": "(self, word)", "nought": "(self, sign=0)", "endless": "(self, sign=0)",
+        "greatest": "(self, sign=0)", "least_plain": "(self, sign=0)", "none_word": "(self)",
+        "turned": "(self, word)", "worth": "(self, word)", "__eq__": "(self, other)",
+        "__str__": "(self)", "__repr__": "(self)"},
+}
+
+
+class TestInterface(unittest.TestCase):
+    def test_functions(self):
+        for file, functions in FUNCTIONS.items():
+            module = importlib.import_module("guessedzeros." + file)
+            for name, arguments in functions.items():
+                with self.subTest(file=file, name=name):
+                    function = getattr(module, name)
+                    self.assertEqual(function.__module__, module.__name__)
+                    self.assertEqual(str(inspect.signature(function)), arguments)
+
+    def test_methods(self):
+        for (file, name), methods in METHODS.items():
+            kind = getattr(importlib.import_module("guessedzeros." + file), name)
+            self.assertEqual(kind.__module__, "guessedzeros." + file)
+            for method, arguments in methods.items():
+                with self.subTest(kind=name, method=method):
+                    self.assertEqual(str(inspect.signature(vars(kind)[method])), arguments)
+
+
+if __name__ == "__main__":
+    unittest.main()
