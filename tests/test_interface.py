@@ -7,6 +7,17 @@ import unittest
 FUNCTIONS = {
     "spelling": {
         "spelled": "(form, word)", "word_in": "(form, text)", "worth_text": "(form, word)", "compared": "(form, a, b)"},
+    "rounding": {
+        "flags_together": "(one, other)", "cut_off": "(number, by)", "last_power": "(form, number, power)",
+        "rounded": "(form, sign, number, power, *, way='near', more=False)"},
+    "plain": {
+        "added": "(form, a, b, *, way='near')", "taken": "(form, a, b, *, way='near')",
+        "multiplied": "(form, a, b, *, way='near')", "divided": "(form, a, b, *, way='near')",
+        "joined": "(form, a, b, c, *, way='near')", "done": "(form, op, words, *, way='near')"},
+    "digits": {"digits_of": "(one, other, many)", "worth_of": "(digits)", "zeros_of": "(number, many)"},
+    "guess": {"marks_of": "(digits)", "guess": "(one, other, many)", "mend": "(one, other, many)"},
+    "cases": {
+        "fits": "(case, digits)", "spread": "(case)", "cases_of": "(many)", "shows_cases": "(many, thing)"},
 }
 METHODS = {
     ("forms", "Form"): {
