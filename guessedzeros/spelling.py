@@ -52,7 +52,11 @@ def compared(form, a, b):
 
 
 def rank_of(form, word):
+    size = size_of(form, word)
+    return -size if form.parts(word)[0] == 1 else size
+
+
+def size_of(form, word):
     # Without their signs words rise as their worths do, endless last; both noughts are 0.
     sign, scale, tail = form.parts(word)
-    size = form.word_of(0, scale, tail)
-    return -size if sign == 1 else size
+    return form.word_of(0, scale, tail)

@@ -12,6 +12,32 @@ WAYS = ("near", "cut", "up", "down")
 NONE, ENDLESS = "none", "endless"
 
 
+def marks_by_hand(digits):
+    """The marks, told by the three digits around each place."""
+    around = [0, *digits, 0]
+    marks = []
+    for ahead, digit, behind in zip(around, around[1:], around[2:]):
+        if digit == 0:
+            marks.append(0)
+        elif ahead == 0:
+            marks.append(int(digit + behind != 0))
+        else:
+            marks.append(int(digit != behind))
+    return marks
+
+
+def guess_by_hand(one, other, many):
+    digits = [(one >> at & 1) - (other >> at & 1) for at in reversed(range(many))]
+    return (marks_by_hand(digits) + [1]).index(1)
+
+
+def guess_step(one, other, total, many):
+    """The step that units of steps tell of a difference; the zeros of total are counted in its figures."""
+    figures = bin(total)[2:] if total else ""
+    zeros = guess_by_hand(one, other, many)
+    return "guess", zeros, many - len(figures) - zeros
+
+
 class Exact:
     def __init__(self, form):
         self.scale, self.tail = form.scale, form.tail
@@ -35,6 +61,18 @@ class Exact:
         if size >= self.endless:
             return sign, ENDLESS if size == self.endless else NONE
         return sign, self.steps(size) * self.step
+
+    def head(self, word):
+        """(sign, head, power): a number above 0, and its power, of a small or plain word."""
+        sign, size = divmod(word, self.sign_bit)
+        scale, tail = divmod(size, 2 ** self.tail)
+        if scale == 0:
+            return sign, tail, 1 - self.bias - self.tail
+        return sign, 2 ** self.tail + tail, scale - self.bias - self.tail
+
+    def is_number(self, word):
+        """Whether it's small or plain."""
+        return self.read(word)[1] not in (NONE, ENDLESS, 0)
 
     def search(self, size):
         """(the word below or at it, how far it is from there to the next: 0, below 1/2, 1/2, above)."""

@@ -4,21 +4,8 @@ import unittest
 
 from guessedzeros.digits import zeros_of
 from guessedzeros.guess import guess, marks_of, mend
+from tests.exact import guess_by_hand, marks_by_hand
 from tests.things import is_alike
-
-
-def marks_by_hand(digits):
-    """The marks, told by the three digits around each place."""
-    around = [0, *digits, 0]
-    marks = []
-    for ahead, digit, behind in zip(around, around[1:], around[2:]):
-        if digit == 0:
-            marks.append(0)
-        elif ahead == 0:
-            marks.append(int(digit + behind != 0))
-        else:
-            marks.append(int(digit != behind))
-    return marks
 
 
 class TestMarks(unittest.TestCase):
@@ -47,9 +34,8 @@ class TestMarks(unittest.TestCase):
 
 class TestGuess(unittest.TestCase):
     def holds(self, one, other, many):
-        digits = [(one >> at & 1) - (other >> at & 1) for at in reversed(range(many))]
         told, mended = guess(one, other, many), mend(one, other, many)
-        self.assertTrue(is_alike(told, (marks_by_hand(digits) + [1]).index(1)), (one, other, many))
+        self.assertTrue(is_alike(told, guess_by_hand(one, other, many)), (one, other, many))
         self.assertIs(type(mended), int)
         self.assertIn(mended, (0, 1), (one, other, many))
         self.assertEqual(told + mended, zeros_of(one - other, many))

@@ -18,6 +18,11 @@ FUNCTIONS = {
     "guess": {"marks_of": "(digits)", "guess": "(one, other, many)", "mend": "(one, other, many)"},
     "cases": {
         "fits": "(case, digits)", "spread": "(case)", "cases_of": "(many)", "shows_cases": "(many, thing)"},
+    "adding": {"add_steps": "(form, a, b, *, way='near')", "take_steps": "(form, a, b, *, way='near')"},
+    "multiplying": {
+        "fours_of": "(number)", "rows_of": "(one, number)", "saved": "(x, y, z)", "levels_of": "(rows)",
+        "times_steps": "(form, a, b, *, way='near')"},
+    "joining": {"join_steps": "(form, a, b, c, *, way='near')"},
 }
 METHODS = {
     ("forms", "Form"): {
@@ -27,6 +32,15 @@ METHODS = {
         "greatest": "(self, sign=0)", "least_plain": "(self, sign=0)", "none_word": "(self)",
         "turned": "(self, word)", "worth": "(self, word)", "__eq__": "(self, other)",
         "__str__": "(self)", "__repr__": "(self)"},
+    ("dividing", "Divider"): {
+        "__init__": "(self, form, a, b, *, way='near', signed=False)", "step": "(self)", "digits": "(self)",
+        "quotient": "(self)", "rest": "(self)", "divisor": "(self)", "left": "(self)", "outcome": "(self)",
+        "like": "(self)"},
+    ("nets", "Net"): {
+        "__init__": "(self, many)", "both": "(self, a, b)", "either": "(self, a, b)", "unlike": "(self, a, b)",
+        "other": "(self, a)", "fixed": "(self, bit)", "give": "(self, name, wires)", "given": "(self, name)",
+        "names": "(self)", "inputs": "(self)", "gates": "(self)", "depth": "(self, wire)", "__len__": "(self)",
+        "like": "(self)"},
 }
 
 

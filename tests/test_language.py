@@ -15,6 +15,8 @@ BARRED_NAMES = """register mro elements open input law version_info with_traceba
 BUILTINS = """len range enumerate zip min max sum abs sorted reversed int str bool bytes list tuple dict set frozenset
     isinstance ord repr any all divmod iter next property staticmethod classmethod NotImplemented""".split()
 DUNDERS = """__init__ __eq__ __repr__ __str__ __len__ __enter__ __exit__ __call__ __iter__ __slots__""".split()
+# Of builtin values; those that aren't used are left out.
+METHODS = """add append clear extend get index insert items join keys pop replace split values zfill bit_length""".split()
 STATEMENTS = (ast.Global, ast.AsyncFunctionDef, ast.AsyncFor, ast.AsyncWith, ast.Await, ast.Import)
 
 
@@ -152,6 +154,14 @@ class TestCode(unittest.TestCase):
                     if node.func.id in ("any", "all", "min", "max", "sum", "sorted"):
                         kinds = [isinstance(given, ast.GeneratorExp) for given in node.args]
                         self.assertNotIn(True, kinds, name)
+
+    def test_methods_that_are_called(self):
+        own = {row.name for name, text, tree in trees() for node in tree.body if isinstance(node, ast.ClassDef)
+               for row in node.body if isinstance(row, ast.FunctionDef)}
+        for name, text, tree in trees():
+            for node in ast.walk(tree):
+                if isinstance(node, ast.Call) and isinstance(node.func, ast.Attribute):
+                    self.assertIn(node.func.attr, own | set(METHODS), name)
 
     def test_no_name_is_a_method_here_and_an_attribute_there(self):
         methods, attributes = set(), set()

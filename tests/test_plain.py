@@ -8,7 +8,7 @@ from guessedzeros.plain import added, divided, done, joined, multiplied, taken
 from guessedzeros.spelling import word_in
 from guessedzeros.ways import CUT, DOWN, NEAR, UP, WAYS
 from tests.exact import Exact
-from tests.things import all_words, is_alike
+from tests.things import GREAT_FORMS, all_words, drawn_word, drawn_words, is_alike
 
 FORM = Form(4, 3)
 PAIRED = {"add": added, "take": taken, "times": multiplied, "over": divided}
@@ -246,26 +246,12 @@ class TestDone(unittest.TestCase):
 
 
 class TestGreaterForms(unittest.TestCase):
-    def word(self, drawn, form, near):
-        """A drawn word: of all, of the edges, or close by scale to another one."""
-        kind = drawn.randrange(6)
-        if kind == 0:
-            word = drawn.choice((form.nought(), form.endless(), form.greatest(), form.least_plain(), 1))
-            return form.turned(word) if drawn.random() < 0.5 else word
-        if kind in (1, 2):
-            return drawn.randrange(2 ** form.width())
-        scale = form.parts(near)[1] + drawn.randrange(-form.tail - 3, form.tail + 4)
-        tail = drawn.getrandbits(form.tail) >> drawn.choice((0, form.tail // 2))
-        return form.word_of(drawn.randrange(2), min(max(scale, 0), form.top() - 1), tail)
-
     def test_against_exact(self):
         drawn = random.Random(13)
-        for form in (Form(5, 10), Form(8, 23), Form(8, 24), Form(2, 24), Form(8, 1), Form(6, 9)):
+        for form in GREAT_FORMS:
             exact = Exact(form)
             for _ in range(120):
-                middle = form.word_of(0, form.bias(), 0)
-                a = self.word(drawn, form, drawn.choice((middle, 0, form.greatest())))
-                words = [a, self.word(drawn, form, a), self.word(drawn, form, a)]
+                words = drawn_words(drawn, form, 3)
                 for op in ("add", "take", "times", "over", "join"):
                     told_words = words if op == "join" else words[:2]
                     for way in WAYS:
@@ -286,8 +272,8 @@ class TestGreaterForms(unittest.TestCase):
                     return form.endless(1 if number < 0 else 0)
 
             for _ in range(4000):
-                a = self.word(drawn, form, form.word_of(0, form.bias(), 0))
-                b = self.word(drawn, form, a)
+                a = drawn_word(drawn, form, form.word_of(0, form.bias(), 0))
+                b = drawn_word(drawn, form, a)
                 x, y = read(a), read(b)
                 # A double has more than twice the bits, so that rounding it again is as if done once.
                 reckoned = {"add": x + y, "take": x - y, "times": x * y}

@@ -11,6 +11,30 @@ def all_words(form):
     return range(2 ** (1 + form.scale + form.tail))
 
 
+# With those of the greatest bounds.
+GREAT_FORMS = [Form(5, 10), Form(8, 23), Form(8, 24), Form(2, 24), Form(8, 1), Form(6, 9)]
+
+
+def drawn_word(drawn, form, near):
+    """A drawn word: of all, of the edges, or close by scale to another one."""
+    kind = drawn.randrange(6)
+    if kind == 0:
+        word = drawn.choice((form.nought(), form.endless(), form.greatest(), form.least_plain(), 1))
+        return form.turned(word) if drawn.random() < 0.5 else word
+    if kind in (1, 2):
+        return drawn.randrange(2 ** form.width())
+    scale = form.parts(near)[1] + drawn.randrange(-form.tail - 3, form.tail + 4)
+    tail = drawn.getrandbits(form.tail) >> drawn.choice((0, form.tail // 2))
+    return form.word_of(drawn.randrange(2), min(max(scale, 0), form.top() - 1), tail)
+
+
+def drawn_words(drawn, form, many):
+    """So many drawn words, the first in the midst or at an end, the others often close to it."""
+    middle = form.word_of(0, form.bias(), 0)
+    first = drawn_word(drawn, form, drawn.choice((middle, 0, form.greatest())))
+    return [first] + [drawn_word(drawn, form, first) for _ in range(many - 1)]
+
+
 def deep(many):
     thing = 1
     for _ in range(many):
