@@ -23,6 +23,14 @@ FUNCTIONS = {
         "fours_of": "(number)", "rows_of": "(one, number)", "saved": "(x, y, z)", "levels_of": "(rows)",
         "times_steps": "(form, a, b, *, way='near')"},
     "joining": {"join_steps": "(form, a, b, c, *, way='near')"},
+    "running": {
+        "ran": "(net, values, *, many=1)", "all_cases": "(many)", "one_case": "(net, word)"},
+    "netparts": {
+        "sum_wires": "(net, ones, others, carry)", "quick_sum_wires": "(net, ones, others, carry)",
+        "shift_wires": "(net, ones, by)", "left_wires": "(net, ones, by)", "zero_wires": "(net, ones)",
+        "mark_wires": "(net, ones, others)", "chosen_wires": "(net, wire, ones, others)",
+        "is_less_wire": "(net, ones, others)", "raise_wires": "(net, ones, wire)",
+        "times_wires": "(net, ones, others)"},
 }
 METHODS = {
     ("forms", "Form"): {
