@@ -2,7 +2,7 @@
 
 from guessedzeros.digits import worth_of, zeros_of
 from guessedzeros.guess import first_mark
-from guessedzeros.kinds import is_number
+from guessedzeros.kinds import is_number, is_text_of
 
 MOST_CASES = 500
 
@@ -62,11 +62,7 @@ def is_row(many, thing):
     if not isinstance(thing, tuple) or len(thing) != 3:
         return False
     case, ahead, zeros = thing
-    return is_case(many, case) and is_number(ahead) and is_number(zeros)
-
-
-def is_case(many, thing):
-    return isinstance(thing, str) and len(thing) == many and all([sign in FITTING for sign in thing])
+    return is_text_of("-0+.", many, case) and is_number(ahead) and is_number(zeros)
 
 
 def many_fitting(case):

@@ -42,3 +42,38 @@ def number_of(bits):
 def values_of(cases):
     """For each input the number that has its bit of every case, of cases told by lists of bits."""
     return [number_of(reversed(column)) for column in zip(*cases)]
+
+
+def numbers_in_cases(numbers, many):
+    """For each case the number that wires tell, of the numbers that ran told of them."""
+    if not numbers:
+        return [0] * many
+    columns = zip(*[bin(number)[2:].zfill(many) for number in numbers])
+    return [int("".join(column), 2) for column in columns][::-1]
+
+
+def state_of(net):
+    """All that a net tells of itself."""
+    wires = range(net.inputs() + len(net))
+    return (net.inputs(), net.gates(), len(net), [(name, net.given(name)) for name in net.names()],
+            [net.depth(wire) for wire in wires])
+
+
+def rebuilt(net, gates):
+    """A net of these gates, that gives by the same names the same wires."""
+    other = Net(net.inputs())
+    for kind, *told in gates:
+        getattr(other, kind)(*told)
+    for name in net.names():
+        other.give(name, net.given(name))
+    return other
+
+
+def with_given(net, changed):
+    """A net of the same gates, that gives by some names other wires."""
+    other = Net(net.inputs())
+    for kind, *told in net.gates():
+        getattr(other, kind)(*told)
+    for name in net.names():
+        other.give(name, changed.get(name, net.given(name)))
+    return other

@@ -31,6 +31,15 @@ FUNCTIONS = {
         "mark_wires": "(net, ones, others)", "chosen_wires": "(net, wire, ones, others)",
         "is_less_wire": "(net, ones, others)", "raise_wires": "(net, ones, wire)",
         "times_wires": "(net, ones, others)"},
+    "wired": {"wired_add": "(form)", "wired_times": "(form)", "wired_guess": "(many)"},
+    "units": {
+        "asked": "(net, form, a, b, *, way='near')", "first_unlike": "(net, form, op, *, way='near')"},
+    "cubes": {
+        "lies_in": "(bits, cube)", "common": "(one, other)", "split": "(cube, place)", "hole": "(cubes, many)"},
+    "settled": {"settled": "(net, cube)"},
+    "sameness": {
+        "same": "(one, other, *, most=400)", "shows_same": "(one, other, thing)",
+        "shows_unlike": "(one, other, thing)"},
 }
 METHODS = {
     ("forms", "Form"): {

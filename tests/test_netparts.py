@@ -8,7 +8,7 @@ from guessedzeros.netparts import (
     times_wires, zero_wires)
 from guessedzeros.nets import Net
 from guessedzeros.running import all_cases, ran
-from tests.bench import bits_of, drawn_net, number_of, values_of
+from tests.bench import bits_of, drawn_net, number_of, numbers_in_cases, values_of
 from tests.things import is_alike
 
 # What each part is told in whole numbers, of the lengths and numbers of what is handed in: a list of
@@ -51,14 +51,6 @@ def raise_due(lengths, one, wire):
 
 def times_due(lengths, one, other):
     return [(lengths[0] + lengths[1], one * other)]
-
-
-def numbers_in_cases(numbers, many):
-    """For each case the number that wires tell, of the numbers that ran told of them."""
-    if not numbers:
-        return [0] * many
-    columns = zip(*[bin(number)[2:].zfill(many) for number in numbers])
-    return [int("".join(column), 2) for column in columns][::-1]
 
 
 def lists_of_inputs(lengths):
