@@ -40,6 +40,8 @@ FUNCTIONS = {
     "sameness": {
         "same": "(one, other, *, most=400)", "shows_same": "(one, other, thing)",
         "shows_unlike": "(one, other, thing)"},
+    "deeds": {"is_deed": "(form, thing)"},
+    "rows": {"row_in": "(form, text)"},
 }
 METHODS = {
     ("forms", "Form"): {
@@ -58,6 +60,17 @@ METHODS = {
         "other": "(self, a)", "fixed": "(self, bit)", "give": "(self, name, wires)", "given": "(self, name)",
         "names": "(self)", "inputs": "(self)", "gates": "(self)", "depth": "(self, wire)", "__len__": "(self)",
         "like": "(self)"},
+    ("plainunit", "PlainUnit"): {
+        "__init__": "(self, form)", "do": "(self, deed)", "cells": "(self)", "raised": "(self)", "many": "(self)",
+        "like": "(self)", "__eq__": "(self, other)"},
+    ("line", "Line"): {
+        "__init__": "(self, form, *, quick=True)", "feed": "(self, deed)", "tick": "(self, *, held=())",
+        "ticks": "(self)", "waiting": "(self)", "inside": "(self)", "words_of": "(self, number)",
+        "steps_of": "(self, number)", "cells": "(self)", "raised": "(self)", "many": "(self)", "finished": "(self)",
+        "empty": "(self, *, most=900)", "like": "(self)"},
+    ("desk", "Desk"): {
+        "__init__": "(self, form, *, quick=True)", "ask": "(self, row)",
+        "run": "(self, rows, *, keep=False, deep=2)", "is_open": "(self)", "log": "(self)"},
 }
 
 
