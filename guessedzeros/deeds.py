@@ -26,7 +26,8 @@ def cell_of(deed):
 
 
 def cells_read(deed):
-    return [] if deed[0] == "put" else list(deed[2:-1])
+    # Of put nothing stands between: there's no way behind its word.
+    return list(deed[2:-1])
 
 
 def outcome_by(form, deed, words):

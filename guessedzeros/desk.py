@@ -27,7 +27,7 @@ class Desk:
     def run(self, rows, *, keep=False, deep=DEEP):
         behind = self.line.like()
         try:
-            texts = self.run_rows(list(rows), deep)
+            texts = self.run_rows(rows, deep)
             if keep:
                 behind = self.line
             return texts

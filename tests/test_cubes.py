@@ -183,6 +183,11 @@ class TestHole(unittest.TestCase):
             rest = [cube for cube in left if cube not in out]
             self.assertEqual(hole(rest, 12), min(cube.replace("-", "0") for cube in out))
 
+    def test_cubes_of_other_lengths_have_no_such_text(self):
+        self.assertEqual(hole(["-", "---", ""], 2), "00")
+        self.assertEqual(hole(["0-", "1", "1--", "10"], 2), "11")
+        self.assertEqual(hole(["-" * 11, "-" * 13], 12), "0" * 12)
+
     def test_lists_and_tuples_stay(self):
         cubes = ["0-", "11"]
         self.assertEqual(hole(cubes, 2), "10")

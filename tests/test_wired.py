@@ -65,6 +65,11 @@ class TestShapes(unittest.TestCase):
                 self.assertLessEqual(net.inputs(), 24)
                 self.assertLessEqual(len(net), 3000)
 
+    def test_fixed_wires_have_bits(self):
+        nets = [wired(form) for form in FORMS for wired, plain in UNITS] + [wired_guess(many) for many in range(1, 13)]
+        for net in nets:
+            self.assertTrue({bit for kind, bit, *rest in net.gates() if kind == "fixed"} <= {0, 1})
+
     def test_guesses(self):
         for many in range(1, 13):
             net = wired_guess(many)
